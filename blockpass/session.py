@@ -1,19 +1,12 @@
-"""One object and the calls on it; each call answers a list of whole numbers."""
+"""One object, what it is told, and the work; each call answers a list of whole numbers."""
 
 from blockpass.blocks import MOST_BLOCKS, Block, are_ready, is_block_form
 from blockpass.instructions import is_code
+from blockpass.refusals import BAD_FORM, BEGUN, NO_CODE, NO_ROOM, NOT_READY
 from blockpass.tables import table_of
-from blockpass.ways import Ways, is_frozen, live_marks, trail
 from blockpass.work import Image, decide, drop, fold, short
 
 MOST_TABLES = 64
-
-BEGUN = -1
-NO_ROOM = -2
-BAD_FORM = -3
-NO_CODE = -4
-NOT_READY = -5
-NO_BLOCK = -6
 
 
 # What was told; and the image that is worked on, None if the work hasn't begun.
@@ -109,42 +102,3 @@ def do_clear(session):
     session.told = []
     session.worked = None
     return [0]
-
-
-def refusal_of(blocks, i):
-    """The refusal of a question about block i; None if there is none."""
-    if not are_ready(blocks):
-        return NOT_READY
-    if i < 0 or i >= len(blocks):
-        return NO_BLOCK
-    return None
-
-
-def listed(row):
-    return [len(row)] + list(row)
-
-
-def look(session, i):
-    blocks = image_now(session).blocks
-    refusal = refusal_of(blocks, i)
-    if refusal is not None:
-        return [refusal]
-    return [blocks[i].kind] + listed(blocks[i].numbers) + listed(blocks[i].code)
-
-
-def size(session):
-    blocks = image_now(session).blocks
-    if not are_ready(blocks):
-        return [NOT_READY]
-    ways = Ways(blocks, session.tables)
-    frozen = 1 if is_frozen(ways, live_marks(ways)) else 0
-    return [len(blocks), len(session.told), len(session.tables), frozen]
-
-
-def leads(session, i):
-    blocks = image_now(session).blocks
-    refusal = refusal_of(blocks, i)
-    if refusal is not None:
-        return [refusal]
-    ways = Ways(blocks, session.tables)
-    return [ways.ends[i]] + listed(trail(ways.steps, i))

@@ -43,16 +43,27 @@ def moves_on(steps, i):
     return steps[i] is not None and steps[i] < len(steps)
 
 
-def ends_of(steps):
-    """Of each block the one to which it leads."""
+def far_ahead(steps):
+    """Of each block the one to which n steps or more bring, or the one where they end."""
     n = len(steps)
     reached = [steps[i] if moves_on(steps, i) else i for i in range(n)]
     gone = 1
     while gone < n:
         reached = [reached[j] for j in reached]
         gone = gone + gone
+    return reached
+
+
+def ends_of(steps):
+    """Of each block the one to which it leads."""
     # What still moves on behind n steps has come round: it never ends.
-    return [i if moves_on(steps, reached[i]) else reached[i] for i in range(n)]
+    return [i if moves_on(steps, far) else far for i, far in enumerate(far_ahead(steps))]
+
+
+def ring_blocks(steps):
+    """The blocks to which one comes back by going on from them, rising."""
+    # Whatever moves on far ahead is in a ring; and each of a ring's blocks is far ahead of another one of it.
+    return sorted(set([far for far in far_ahead(steps) if moves_on(steps, far)]))
 
 
 def trail(steps, i):
@@ -81,21 +92,34 @@ def nexts(ways, i):
     return [j for j in found if j < n]
 
 
-def is_source(block):
-    return block.kind == CREATE and block.numbers[3] > 0
+def all_nexts(ways):
+    """For each block what may come next of it."""
+    return [nexts(ways, i) for i in range(len(ways.blocks))]
 
 
-def live_marks(ways):
-    """For each block whether it is live."""
-    marks = [is_source(block) for block in ways.blocks]
-    waiting = [i for i in range(len(marks)) if marks[i]]
+def reached_marks(forward, begins):
+    """For each block whether one comes to it from those to begin with; these are among them."""
+    marks = [False for row in forward]
+    for i in begins:
+        marks[i] = True
+    waiting = list(begins)
     while len(waiting) > 0:
         i = waiting.pop()
-        for j in nexts(ways, i):
+        for j in forward[i]:
             if not marks[j]:
                 marks[j] = True
                 waiting.append(j)
     return marks
+
+
+def sources(blocks):
+    """The creates whose fourth number is above 0, rising."""
+    return [i for i, block in enumerate(blocks) if block.kind == CREATE and block.numbers[3] > 0]
+
+
+def live_marks(ways):
+    """For each block whether it is live."""
+    return reached_marks(all_nexts(ways), sources(ways.blocks))
 
 
 def is_frozen(ways, live):

@@ -12,6 +12,10 @@ PASS = [6]
 AGAIN = [7]
 CLEAR = [8]
 SIZE = [10]
+LIVE = [13]
+IDLE = [14]
+RINGS = [15]
+TOLD = [22]
 
 # Kind: the counts of numbers that it may have, the indexes of labels (with the least count), code, goes on.
 EXPECTED_KINDS = {}
@@ -57,6 +61,34 @@ def look(i):
 
 def leads(i):
     return [11, i]
+
+
+def next_of(i):
+    return [12, i]
+
+
+def dominators(i):
+    return [16, i]
+
+
+def circle(i):
+    return [17, i]
+
+
+def place(i):
+    return [18, i]
+
+
+def origin(i):
+    return [19, i]
+
+
+def worth(code):
+    return [20, len(code), *code]
+
+
+def folded(code):
+    return [21, len(code), *code]
 
 
 def number(n, d=1):
@@ -114,6 +146,10 @@ def plain():
 def shown(kind, numbers=(), code=()):
     """What look answers of such a block."""
     return [kind, len(numbers), *numbers, len(code), *code]
+
+
+def listed(*row):
+    return [len(row), *row]
 
 
 def split(given):

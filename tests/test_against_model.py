@@ -5,8 +5,7 @@ import random
 import unittest
 from fractions import Fraction
 
-from blockpass.session import Session, do_decide, do_drop, do_fold, do_pass, do_short, tell_block, tell_table
-from helper import BIG, EXPECTED_KINDS, block, run, table
+from helper import BIG, EXPECTED_KINDS, block, folded, run, table, worth
 
 
 class CodeError(Exception):
@@ -139,10 +138,34 @@ def fold_code(code, tables):
     return sum(out, [])
 
 
+def is_code(code):
+    row = list(code)
+    while row:
+        if row[0] not in range(11):
+            return False
+        size = {0: 3, 8: 3, 9: 1}.get(row[0], 2)
+        first, *rest = row[:size]
+        if len(rest) != size - 1:
+            return False
+        if first == 0:
+            n, d = rest
+            if d < 1 or abs(n) > BIG or d > BIG or math.gcd(n, d) != 1:
+                return False
+        elif rest and (min(rest) < 0 or rest[0] > {3: 7, 4: 12, 10: 1}.get(first, BIG)):
+            return False
+        row = row[size:]
+    return len(code) <= 500
+
+
+def listed(found):
+    return [len(found), *sorted(found)]
+
+
 class Model:
     def __init__(self):
         self.tables = []
         self.told = []
+        self.known = None
         self.again()
 
     def again(self):
@@ -320,6 +343,91 @@ class Model:
     def size(self, i=0):
         return [len(self.now), len(self.told), len(self.tables), int(self.frozen())]
 
+    def edges(self):
+        """For each block what may come next; worked out once for an image."""
+        image = (repr(self.now), len(self.tables))
+        if self.known != image:
+            self.known = image
+            self.after = [self.following(i) for i in range(len(self.now))]
+            self.without = {}
+        return self.after
+
+    def reached(self, begins, gone_round=None):
+        after = self.edges()
+        found = set(begins) - {gone_round}
+        fresh = found
+        while fresh:
+            fresh = set().union(*(after[i] for i in fresh)) - found - {gone_round}
+            found = found | fresh
+        return found
+
+    def next(self, i):
+        return listed(self.edges()[i])
+
+    def rings(self, i=0):
+        n = len(self.now)
+        found = set()
+        for i in range(n):
+            j = i
+            for k in range(n):
+                j = self.onward(j)
+                if j is None or j == n:
+                    break
+                if j == i:
+                    found.add(i)
+                    break
+        return listed(found)
+
+    def dominators(self, i):
+        begins = {j for j, (kind, numbers, code) in enumerate(self.now) if kind == 0 and numbers[3] > 0}
+        self.edges()
+        for j in range(len(self.now)):
+            if j not in self.without:
+                self.without[j] = self.reached(begins, j)
+        if i not in self.reached(begins):
+            return [0]
+        return listed({j for j in range(len(self.now)) if i not in self.without[j]})
+
+    def circle(self, i):
+        return listed({i} | {j for j in self.reached(self.edges()[i]) if i in self.reached(self.edges()[j])})
+
+    def asked_place(self, i):
+        self.start()
+        if not self.ready():
+            return [-5]
+        if not 0 <= i < len(self.told):
+            return [-6]
+        return [self.place.get(i, -10)]
+
+    def worth(self, code):
+        if not is_code(code):
+            return [-4]
+        row = cut(code)
+        if any(ins[0] in (1, 2, 8) for ins in row):
+            return [2]
+        try:
+            x = evaluate(row, self.tables)
+        except CodeError as e:
+            return [1, *e.args]
+        return [0, x.numerator, x.denominator]
+
+    def folded(self, code):
+        if not is_code(code):
+            return [-4]
+        row = fold_code(code, self.tables)
+        return [len(row), *row]
+
+    def answer_question(self, place, rest):
+        if place == 18:
+            return self.asked_place(*rest)
+        if place in (20, 21):
+            return (self.worth if place == 20 else self.folded)(*rest)
+        return self.asked({
+            9: self.look, 10: self.size, 11: self.leads, 12: self.next, 13: lambda i: listed(self.live()),
+            14: lambda i: listed(self.idle()), 15: self.rings, 16: self.dominators, 17: self.circle,
+            19: lambda i: [self.origin[i]], 22: lambda i: sum(map(self.look, range(len(self.now))), [len(self.now)]),
+        }[place], *(rest or (0,)))
+
     def answer(self, call):
         place, *rest = call
         if place == 0:
@@ -331,12 +439,8 @@ class Model:
         if place == 8:
             self.__init__()
             return [0]
-        if place == 9:
-            return self.asked(self.look, *rest)
-        if place == 10:
-            return self.asked(self.size, 0)
-        if place == 11:
-            return self.asked(self.leads, *rest)
+        if place >= 9:
+            return self.answer_question(place, rest)
         every = [self.fold, self.decide, self.short, self.drop]
         return self.work(every if place == 6 else [every[place - 2]])
 
@@ -374,6 +478,26 @@ def made_up_code(rng):
         else:
             code += [10, rng.randrange(2)]
     return code
+
+
+def made_up_sound_code(rng):
+    """A code that finds what it takes off its stack, but where a jump is made; it may read something."""
+    code = []
+    depth = 0
+    reads = rng.random() < 0.5
+    for k in range(rng.choice((3, 5, 8, 13, 20))):
+        pick = rng.random()
+        if depth == 0 or pick < 0.3:
+            code += rng.choice(([1, 0], [2, 3], [8, 0, 1])) if reads and rng.random() < 0.2 else [0, *rng.choice(SOME_NUMBERS)]
+            depth += 1
+        elif depth >= 2 and pick < 0.7:
+            code += [4, rng.randrange(13)] if pick < 0.6 else [10, rng.randrange(2)]
+            depth -= 1
+        elif pick < 0.95:
+            code += rng.choice(([3, rng.randrange(8)], [7, rng.randrange(3)], [9]))
+        else:
+            code += [5, rng.randrange(2)]
+    return code + [4, 2] * (depth - 1)
 
 
 def made_up_block(rng, n):
@@ -414,6 +538,7 @@ def made_up_calls(rng):
         calls.append(made_up_block(rng, n + (rng.random() < 0.005)))
     if rng.random() < 0.7:
         calls[len(calls) - n] = (0, 0, [0, 0, 0, 1, 0], [])
+    calls += made_up_questions(rng, n)
     for k in range(rng.choice((1, 2, 4, 6))):
         calls.append((rng.choice((2, 3, 4, 5, 5, 6, 6)),))
         if rng.random() < 0.1:
@@ -422,10 +547,21 @@ def made_up_calls(rng):
             calls.append((8,))
         if rng.random() < 0.1:
             calls.append(made_up_block(rng, n))
-        calls.append((10,))
-        for i in range(-1, n + 1):
-            calls += [(9, i), (11, i)]
+        calls += made_up_questions(rng, n)
     return calls[:400]
+
+
+def made_up_questions(rng, n):
+    calls = [(10,), (13,), (14,), (15,), (22,)]
+    for i in range(-1, n + 1):
+        calls += [(place, i) for place in (9, 11, 12, 16, 17, 18, 19) if rng.random() < 0.5]
+    for k in range(rng.randrange(3)):
+        code = made_up_code(rng)
+        if rng.random() < 0.1:
+            code[rng.randrange(len(code) + 1):] = [rng.randrange(-1, 13)]
+        calls.append((rng.choice((20, 21)), code))
+    rng.shuffle(calls)
+    return calls
 
 
 def flat(call):
@@ -433,38 +569,33 @@ def flat(call):
         return block(*call[1:])
     if call[0] == 1:
         return table(*call[1:])
+    if call[0] == 20:
+        return worth(*call[1:])
+    if call[0] == 21:
+        return folded(*call[1:])
     return list(call)
+
+
+LISTS = 400
 
 
 class AgainstModel(unittest.TestCase):
     def test_answers(self):
-        for seed in range(1200):
-            calls = made_up_calls(random.Random(seed))
-            model = Model()
-            due = [model.answer(call) for call in calls]
-            with self.subTest(seed=seed):
-                self.assertEqual(run(*[flat(call) for call in calls]), due)
+        for seed in range(LISTS):
+            self.check(seed, made_up_calls(random.Random(seed)))
 
-    def test_places_and_origins(self):
-        doing = {2: do_fold, 3: do_decide, 4: do_short, 5: do_drop, 6: do_pass}
-        for seed in range(1200):
-            session = Session()
-            model = Model()
-            for call in made_up_calls(random.Random(seed)):
-                if call[0] == 0:
-                    tell_block(session, *call[1:])
-                elif call[0] == 1:
-                    tell_table(session, *call[1:])
-                elif call[0] in doing:
-                    doing[call[0]](session)
-                else:
-                    continue
-                model.answer(call)
-                if model.begun:
-                    n = len(model.told)
-                    with self.subTest(seed=seed):
-                        self.assertEqual(session.worked.places, [model.place.get(i) for i in range(n)])
-                        self.assertEqual(session.worked.origins, model.origin)
+    def test_codes(self):
+        for seed in range(LISTS):
+            rng = random.Random(seed)
+            codes = [made_up_sound_code(rng) for k in range(10)]
+            tables = [made_up_table(rng) for k in range(rng.randrange(3))]
+            self.check(seed, tables + [(20, code) for code in codes] + [(21, code) for code in codes])
+
+    def check(self, seed, calls):
+        model = Model()
+        due = [model.answer(call) for call in calls]
+        with self.subTest(seed=seed):
+            self.assertEqual(run(*[flat(call) for call in calls]), due)
 
 
 if __name__ == "__main__":

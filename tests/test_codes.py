@@ -1,19 +1,20 @@
-"""What a code is worth, its errors, tables, and a code folded."""
+"""The calls worth and folded: what a code is worth, its errors, tables, and a code folded."""
 
 import unittest
 from fractions import Fraction
 
-from blockpass.folding import constant_worth, folded, worth
-from blockpass.instructions import instructions_of
-from blockpass.tables import table_of
-from helper import BIG, FOLD, block, create, last, look, number, run, shown, table
+from helper import (
+    AGAIN, BIG, CLEAR, FOLD, PASS, block, create, end, folded, go, last, leads, look, number, run, shown, table, wait,
+    worth,
+)
 
 X = number(7, 3)
 TWO = number(2)
 
 
 def worth_of(code, tables=()):
-    return worth(instructions_of(code), list(tables))
+    """What worth answers behind the telling of the tables."""
+    return last(*tables, worth(code))
 
 
 def fold_of(code, tables=()):
@@ -23,10 +24,10 @@ def fold_of(code, tables=()):
 
 class Worth(unittest.TestCase):
     def gives(self, code, n, d=1, tables=()):
-        self.assertEqual(worth_of(code, tables), (0, (n, d)), code)
+        self.assertEqual(worth_of(code, tables), [0, n, d], code)
 
     def fails(self, code, error, tables=()):
-        self.assertEqual(worth_of(code, tables)[0], error, code)
+        self.assertEqual(worth_of(code, tables), [1, error], code)
 
     def of_one(self, o, n, d, *due):
         self.gives(number(n, d) + [3, o], *due)
@@ -176,7 +177,7 @@ class Worth(unittest.TestCase):
 
     def test_empty_stacks(self):
         for code in ([3, 0], [4, 0], number(1) + [4, 0], [6, 0], [7, 0], [9], [10, 0], number(1) + [10, 1]):
-            self.fails(code, 9, [table_of(2, [], [1, 1])])
+            self.fails(code, 9, [table(2, [], [1, 1])])
 
     def test_not_just_one_at_the_end(self):
         self.fails([], 9)
@@ -192,13 +193,17 @@ class Worth(unittest.TestCase):
     def test_order_of_what_is_taken_off(self):
         self.gives(number(1) + number(2) + number(3) + [4, 1, 4, 1], 2)
 
-    def test_constant(self):
-        self.assertEqual(constant_worth(X, []), (7, 3))
-        self.assertIsNone(constant_worth([1, 0], []))
-        self.assertIsNone(constant_worth([], []))
+    def test_what_reads_something(self):
         for read in ([1, 0], [2, 3], [8, 0, 0]):
-            self.assertIsNone(constant_worth([5, 1] + read + X, []))
-            self.assertIsNone(constant_worth(X + [5, 1] + read, []))
+            for code in (read, [5, 1] + read + X, X + [5, 1] + read, read + [4, 3], [9] + read, X + X + read + [5, 99]):
+                self.assertEqual(worth_of(code), [2])
+
+    def test_constant(self):
+        for code, due in (
+            (X, [1, 2, 0, 1]), (number(0), [0, 1, 0]), ([1, 0], [0, 1, 0]), ([], [0, 1, 0]),
+            ([5, 1, 1, 0] + X, [0, 1, 0]), (X + [5, 1, 2, 0], [0, 1, 0]), (X + [5, 1, 9], [1, 2, 0, 1]),
+        ):
+            self.assertEqual(last(wait(code), end(), leads(0)), due)
 
     def test_500_numbers(self):
         code = number(1) + [9] * 497
@@ -212,48 +217,48 @@ class Tables(unittest.TestCase):
         return worth_of(number(n, d) + [7, 0], [told])
 
     def test_kind_0(self):
-        told = table_of(0, [1, 1, 5, 2, 4, 1], [10, 1, 20, 3, 30, 1])
+        told = table(0, [1, 1, 5, 2, 4, 1], [10, 1, 20, 3, 30, 1])
         for n, d, due in (
             (-9, 1, (10, 1)), (1, 1, (10, 1)), (3, 2, (20, 3)), (5, 2, (20, 3)), (3, 1, (30, 1)), (4, 1, (30, 1)),
             (9, 1, (30, 1)),
         ):
-            self.assertEqual(self.at(told, n, d), (0, due))
+            self.assertEqual(self.at(told, n, d), [0, *due])
 
     def test_kind_1(self):
-        told = table_of(1, [1, 1, 3, 1, 4, 1], [10, 1, 20, 1, -5, 1])
+        told = table(1, [1, 1, 3, 1, 4, 1], [10, 1, 20, 1, -5, 1])
         for n, d, due in (
             (-9, 1, (10, 1)), (1, 1, (10, 1)), (2, 1, (15, 1)), (4, 3, (35, 3)), (3, 1, (20, 1)), (7, 2, (15, 2)),
             (4, 1, (-5, 1)), (9, 1, (-5, 1)),
         ):
-            self.assertEqual(self.at(told, n, d), (0, due))
+            self.assertEqual(self.at(told, n, d), [0, *due])
 
     def test_kind_1_with_one_point(self):
-        told = table_of(1, [1, 1], [10, 1])
+        told = table(1, [1, 1], [10, 1])
         for n in (0, 1, 2):
-            self.assertEqual(self.at(told, n), (0, (10, 1)))
+            self.assertEqual(self.at(told, n), [0, 10, 1])
 
     def test_kind_1_not_small(self):
-        told = table_of(1, [0, 1, 10 ** 10, 1], [0, 1, 1, 10 ** 10])
-        self.assertEqual(self.at(told, 1)[0], 1)
-        self.assertEqual(self.at(told, 10 ** 10), (0, (1, 10 ** 10)))
-        self.assertEqual(self.at(told, 100), (0, (1, BIG)))
+        told = table(1, [0, 1, 10 ** 10, 1], [0, 1, 1, 10 ** 10])
+        self.assertEqual(self.at(told, 1), [1, 1])
+        self.assertEqual(self.at(told, 10 ** 10), [0, 1, 10 ** 10])
+        self.assertEqual(self.at(told, 100), [0, 1, BIG])
 
     def test_kind_1_on_the_way_nothing_has_to_be_small(self):
-        told = table_of(1, [-BIG, 1, BIG, 1], [-BIG, 1, BIG, 1])
-        self.assertEqual(self.at(told, 5), (0, (5, 1)))
+        told = table(1, [-BIG, 1, BIG, 1], [-BIG, 1, BIG, 1])
+        self.assertEqual(self.at(told, 5), [0, 5, 1])
 
     def test_kind_2(self):
-        told = table_of(2, [], [10, 1, 20, 3])
-        self.assertEqual(self.at(told, 1), (0, (10, 1)))
-        self.assertEqual(self.at(told, 2), (0, (20, 3)))
+        told = table(2, [], [10, 1, 20, 3])
+        self.assertEqual(self.at(told, 1), [0, 10, 1])
+        self.assertEqual(self.at(told, 2), [0, 20, 3])
         for n, d in ((0, 1), (3, 1), (-1, 1), (3, 2), (1, 2), (BIG, 1)):
-            self.assertEqual(self.at(told, n, d)[0], 3)
+            self.assertEqual(self.at(told, n, d), [1, 3])
 
     def test_lowest_terms(self):
-        told = table_of(2, [], [2, 4, -6, 3, 0, 9])
-        self.assertEqual(self.at(told, 1), (0, (1, 2)))
-        self.assertEqual(self.at(told, 2), (0, (-2, 1)))
-        self.assertEqual(self.at(told, 3), (0, (0, 1)))
+        told = table(2, [], [2, 4, -6, 3, 0, 9])
+        self.assertEqual(self.at(told, 1), [0, 1, 2])
+        self.assertEqual(self.at(told, 2), [0, -2, 1])
+        self.assertEqual(self.at(told, 3), [0, 0, 1])
 
     def test_numbered_in_order_of_telling(self):
         told = [table(2, [], [5, 1]), table(2, [], [6, 1])]
@@ -261,8 +266,8 @@ class Tables(unittest.TestCase):
         self.assertEqual(fold_of_behind(told, number(1) + [7, 1]), number(6))
 
     def test_one_that_hasn_t_been_told(self):
-        self.assertEqual(worth_of(number(1) + [7, 0])[0], 9)
-        self.assertEqual(worth_of(number(1) + [7, 1], [table_of(2, [], [1, 1])])[0], 9)
+        self.assertEqual(worth_of(number(1) + [7, 0]), [1, 9])
+        self.assertEqual(worth_of(number(1) + [7, 1], [table(2, [], [1, 1])]), [1, 9])
         self.assertEqual(fold_of(number(1) + [7, 0]), number(1) + [7, 0])
 
     def test_each_kind_by_the_calls(self):
@@ -285,7 +290,9 @@ def fold_of_behind(tables, code):
 
 class Folded(unittest.TestCase):
     def becomes(self, code, due, tables=()):
-        self.assertEqual(folded(code, list(tables)), due)
+        """What folded answers, and what fold makes of a block's code."""
+        self.assertEqual(last(*tables, folded(code)), [len(due)] + due)
+        self.assertEqual(fold_of_behind(tables, code), due)
 
     def test_constants(self):
         self.becomes(number(1) + number(2) + [4, 0], number(3))
@@ -336,23 +343,59 @@ class Folded(unittest.TestCase):
             self.becomes(code, code)
 
     def test_tables(self):
-        told = [table_of(2, [], [7, 2])]
+        told = [table(2, [], [7, 2])]
         self.becomes([1, 0] + number(1) + [7, 0, 4, 0], [1, 0] + number(7, 2) + [4, 0], told)
         self.becomes([1, 0] + number(2) + [7, 0, 4, 0], [1, 0] + number(2) + [7, 0, 4, 0], told)
         self.becomes([1, 0] + number(1) + [7, 1, 4, 0], [1, 0] + number(1) + [7, 1, 4, 0], told)
         self.becomes([1, 0, 7, 0], [1, 0, 7, 0], told)
 
     def test_what_is_read_folds_nothing(self):
-        told = [table_of(2, [], [7, 2])]
+        told = [table(2, [], [7, 2])]
         for read in ([1, 0], [2, 0], [8, 0, 0]):
             self.becomes(number(1) + read + [4, 0], number(1) + read + [4, 0], told)
         self.becomes(number(1) + number(0), number(1) + number(0), told)
 
-    def test_the_code_handed_in_is_not_changed(self):
-        code = [1, 0] + X + [3, 2, 4, 0]
-        kept = list(code)
-        folded(code, [])
-        self.assertEqual(code, kept)
+    def test_500_numbers(self):
+        self.becomes(number(1) + [9] * 497, number(1))
+        self.becomes([9] * 500, [9] * 500)
+        self.becomes([1, 0] * 250, [1, 0] * 250)
+        self.becomes(number(1) + number(2) * 162 + [4, 0, 3, 0, 3, 0, 3, 0, 3, 0],
+                     number(1) + number(2) * 160 + number(4))
+
+
+BAD_CODES = (
+    [0, 0, 2], [0, 2, 4], [0, 1, 0], [0, 1, -1], [1, -1], [2, -1], [8, -1, 0], [8, 0, -1], [3, -1], [3, 8], [4, -1],
+    [4, 13], [5, -1], [6, -1], [7, -1], [10, -1], [10, 2], [11], [-1], [BIG], [-BIG], [0], [0, 1], [1], [2], [3], [4],
+    [5], [6], [7], [8], [8, 0], [10], [9, 9, 4], [1, 1, 0, 1], [5, 1, 11, 0, 1, 1], [9] * 501, [0, 1, 1] * 400,
+    [9] * 2000,
+)
+
+
+class Calls(unittest.TestCase):
+    def test_no_code(self):
+        for code in BAD_CODES:
+            self.assertEqual(run(worth(code), folded(code), AGAIN), [[-4], [-4], [0]], code)
+
+    def test_no_code_is_the_one_refusal(self):
+        for told in ([], [go(5)], [create(), PASS], [create(), end(), end(), PASS]):
+            for code, value, fold in ((X, [0, 7, 3], [3] + X), ([], [1, 9], [0]), ([1, 0], [2], [2, 1, 0])):
+                self.assertEqual(run(*told, worth(code), folded(code))[len(told):], [value, fold])
+            self.assertEqual(run(*told, worth([11]), folded([11]))[len(told):], [[-4], [-4]])
+
+    def test_the_tables_of_now(self):
+        code = number(1) + [7, 0]
+        told = table(2, [], [5, 2])
+        asked = [worth(code), folded(code)]
+        bare = [[1, 9], [5] + code]
+        full = [[0, 5, 2], [3] + number(5, 2)]
+        found = run(*asked, told, *asked, create(), PASS, *asked, AGAIN, *asked, CLEAR, *asked)
+        self.assertEqual([found[k] for k in (0, 1, 3, 4, 7, 8, 10, 11, 13, 14)], bare + full + full + full + bare)
+
+    def test_a_refused_table_isn_t_told(self):
+        self.assertEqual(last(table(5, [], [1, 1]), worth(number(1) + [7, 0])), [1, 9])
+
+    def test_they_don_t_begin_the_work(self):
+        self.assertEqual(run(create(), worth(X), folded(X), create(), table(2, [], [1, 1]))[3:], [[1], [0]])
 
 
 if __name__ == "__main__":

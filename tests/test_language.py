@@ -198,6 +198,34 @@ class Language(unittest.TestCase):
             ]
             self.assertEqual(len(loaded), read)
 
+    def test_sets_are_sorted_counted_or_asked_on_the_spot(self):
+        for path, tree in self.each():
+            held = []
+            for node in ast.walk(tree):
+                if isinstance(node, ast.Call) and isinstance(node.func, ast.Name) and node.func.id in ("sorted", "len"):
+                    held += node.args
+                if isinstance(node, ast.Compare):
+                    held += [node.left] + node.comparators
+            for node in ast.walk(tree):
+                if isinstance(node, ast.Call) and isinstance(node.func, ast.Name) and node.func.id == "set":
+                    self.assertIn(node, held, ast.unparse(node))
+
+    def test_what_a_loop_walks_isn_t_changed_in_it(self):
+        changes = ("append", "clear", "extend", "insert", "pop", "remove", "reverse", "setdefault", "update")
+        for path, tree in self.each():
+            for loop in ast.walk(tree):
+                if not isinstance(loop, ast.For):
+                    continue
+                walked = {node.id for node in ast.walk(loop.iter) if isinstance(node, ast.Name)}
+                for node in [inner for row in loop.body for inner in ast.walk(row)]:
+                    held = None
+                    if isinstance(node, ast.Attribute) and node.attr in changes:
+                        held = node.value
+                    if isinstance(node, ast.Subscript) and isinstance(node.ctx, ast.Store):
+                        held = node.value
+                    if isinstance(held, ast.Name):
+                        self.assertNotIn(held.id, walked)
+
     def test_ranges_and_their_like_are_walked_on_the_spot(self):
         for path, tree in self.each():
             walked = []

@@ -1,12 +1,11 @@
-"""The calls look, size and leads; leading on, what is live, frozen and idle, and what stays."""
+"""The questions about the image now, but those of far ways and of origins; what stays."""
 
 import unittest
 
-from blockpass.blocks import Block
-from blockpass.ways import Ways, idle_marks, live_marks, nexts, stay_marks
 from helper import (
-    BIG, CLEAR, DECIDE, DROP, EXPECTED_KINDS, SIZE, back, block, call, choose, create, end, go, hold, last, leads, look,
-    match, number, plain, run, shown, table, wait, when,
+    AGAIN, BIG, CLEAR, DECIDE, DROP, EXPECTED_KINDS, FOLD, IDLE, LIVE, PASS, RINGS, SHORT, SIZE, TOLD, back, block, call,
+    choose, circle, create, dominators, end, go, hold, last, leads, listed, look, match, next_of, number, origin, place,
+    plain, run, shown, table, wait, when,
 )
 
 ONE = number(1)
@@ -15,54 +14,69 @@ HALF = number(1, 2)
 READS = [1, 0]
 
 
-def ways_of(*told):
-    """The ways of what the calls of block tell."""
-    blocks = []
-    for one in told:
-        count = one[2]
-        blocks.append(Block(one[1], one[3:3 + count], one[4 + count:]))
-    return Ways(blocks, [])
-
-
-def marked(marks):
-    return [i for i, mark in enumerate(marks) if mark]
-
-
 def live(*told):
-    return marked(live_marks(ways_of(*told)))
+    return last(*told, LIVE)[1:]
 
 
 def idle(*told):
-    ways = ways_of(*told)
-    return marked(idle_marks(ways, live_marks(ways)))
+    return last(*told, IDLE)[1:]
 
 
 def stays(*told):
-    ways = ways_of(*told)
-    return marked(stay_marks(ways, live_marks(ways)))
+    """What stays, by the origins behind drop."""
+    n = last(*told, DROP, SIZE)[0]
+    return [last(*told, DROP, origin(i))[0] for i in range(n)]
 
 
 def frozen(*told):
     return last(*told, SIZE)[3]
 
 
+OF_A_BLOCK = (look, leads, next_of, dominators, circle, place, origin)
+OF_THE_IMAGE = (SIZE, LIVE, IDLE, RINGS, TOLD)
+
+
 class Refusals(unittest.TestCase):
     def test_an_image_that_isn_t_ready(self):
         for told in ([], [go(1)], [create(), create(), choose(0, 1, 3)], [match(1)], [create(), CLEAR]):
-            for question in (look(0), SIZE, leads(0), look(-1), leads(99)):
+            for question in OF_THE_IMAGE:
                 self.assertEqual(last(*told, question), [-5])
+            for question in OF_A_BLOCK:
+                self.assertEqual(last(*told, question(0)), [-5])
+
+    def test_not_ready_comes_before_no_such_block(self):
+        for question in OF_A_BLOCK:
+            for i in (-1, 2, 99, BIG):
+                self.assertEqual(last(create(), go(2), question(i)), [-5])
+                self.assertEqual(last(question(i)), [-5])
 
     def test_no_such_block(self):
-        for i in (-1, 2, 3, 200, BIG, -BIG):
-            self.assertEqual(last(create(), create(), look(i)), [-6])
-            self.assertEqual(last(create(), create(), leads(i)), [-6])
+        for question in OF_A_BLOCK:
+            for i in (-1, -2, 2, 3, 200, BIG, -BIG):
+                self.assertEqual(last(create(), create(), question(i)), [-6])
+            for i in (0, 1):
+                self.assertNotEqual(last(create(), create(), question(i)), [-6])
 
     def test_it_is_the_image_now_that_counts(self):
         told = [create(), end(), end()]
-        self.assertEqual(last(*told, look(2)), shown(17, [0]))
-        self.assertEqual(last(*told, DROP, look(2)), [-6])
-        self.assertEqual(last(*told, DROP, leads(2)), [-6])
-        self.assertEqual(last(*told, DROP, look(1)), shown(17, [0]))
+        for question in (look, leads, next_of, dominators, circle, origin):
+            self.assertNotEqual(last(*told, question(2)), [-6])
+            self.assertEqual(last(*told, DROP, question(2)), [-6])
+            self.assertNotEqual(last(*told, DROP, question(1)), [-6])
+            self.assertNotEqual(last(*told, DROP, AGAIN, question(2)), [-6])
+            self.assertEqual(last(*told, DROP, CLEAR, question(2)), [-5])
+
+    def test_questions_change_nothing(self):
+        told = [create(), wait(ONE + ONE + [4, 0]), when(4, ZERO), go(0), end()]
+        before = last(*told, TOLD)
+        for work in ([], [FOLD], [DECIDE], [SHORT], [DROP], [PASS]):
+            asked = [*OF_THE_IMAGE]
+            for question in OF_A_BLOCK:
+                asked += [question(0), question(1), question(99)]
+            self.assertEqual(last(*told, *work, *asked, TOLD), last(*told, *work, TOLD))
+            found = run(*told, *asked, *work, *asked)
+            self.assertEqual(found[5 + len(asked):], run(*told, *work, *asked)[5:])
+            self.assertEqual(run(*told, *asked, create(), TOLD)[-2:], [[5], [6] + before[1:] + shown(0, [0, 0, 0, 1, 0])])
 
 
 class Size(unittest.TestCase):
@@ -176,7 +190,9 @@ class Leads(unittest.TestCase):
 
 class MayComeNext(unittest.TestCase):
     def of(self, i, *told):
-        return sorted(set(nexts(ways_of(*told), i)))
+        found = last(*told, next_of(i))
+        self.assertEqual(found[0], len(found) - 1)
+        return found[1:]
 
     def test_each_kind(self):
         for kind, form in EXPECTED_KINDS.items():
@@ -211,6 +227,34 @@ class MayComeNext(unittest.TestCase):
             self.assertEqual(self.of(1, end(), final), [])
         self.assertEqual(self.of(1, end(), when(0, READS)), [0])
         self.assertEqual(self.of(0, back()), [0])
+        self.assertEqual(last(end(), plain(), next_of(1)), [0])
+
+    def test_rising_and_each_once(self):
+        self.assertEqual(last(choose(3, 1, 3, 2, 1), end(), end(), end(), next_of(0)), listed(1, 2, 3))
+        self.assertEqual(last(block(15, [0, 1]), end(), next_of(0)), listed(1))
+        self.assertEqual(last(end(), block(15, [0, 0]), end(), next_of(1)), listed(0, 2))
+        self.assertEqual(last(create(), match(1), end(), next_of(1)), listed(1, 2))
+
+    def test_a_call(self):
+        self.assertEqual(last(call(2), end(), end(), next_of(0)), listed(2))
+
+    def test_a_back(self):
+        self.assertEqual(last(*[back()] * 200, next_of(7)), listed(*range(200)))
+        self.assertEqual(last(create(0), back(), end(), next_of(1)), listed(0, 1, 2))
+
+    def test_by_a_table(self):
+        told = [wait(ONE + [7, 0]), end(), table(2, [], [0, 1])]
+        self.assertEqual(last(*told[:2], next_of(0)), listed(1))
+        self.assertEqual(last(*told, next_of(0)), listed())
+
+    def test_behind_work(self):
+        told = [create(), when(4, ZERO), when(2, READS + ZERO + [4, 2]), go(2), go(5), end()]
+        self.assertEqual(last(*told, next_of(1)), listed(4))
+        self.assertEqual(last(*told, DECIDE, next_of(1)), listed(4))
+        self.assertEqual(last(*told, SHORT, next_of(1)), listed(5))
+        self.assertEqual(last(*told, DROP, next_of(0)), listed(1))
+        self.assertEqual(last(*told, PASS, next_of(1)), listed())
+        self.assertEqual(last(*told, PASS, AGAIN, next_of(1)), listed(4))
 
 
 class Live(unittest.TestCase):
@@ -229,6 +273,22 @@ class Live(unittest.TestCase):
         self.assertEqual(live(end(), create(), back(), end()), [0, 1, 2, 3])
         self.assertEqual(live(create(), wait(ZERO), end()), [0, 1])
         self.assertEqual(live(plain(), create(), go(0)), [0, 1, 2])
+
+    def test_listed(self):
+        self.assertEqual(last(create(0), end(), LIVE), listed())
+        self.assertEqual(last(end(), create(), go(0), LIVE), listed(0, 1, 2))
+        self.assertEqual(last(*[create()] * 200, LIVE), listed(*range(200)))
+
+    def test_more_than_one_create(self):
+        self.assertEqual(live(create(), end(), plain(), create(), end(), create(0), plain()), [0, 1, 3, 4])
+
+    def test_behind_work(self):
+        told = [end(), create(), when(5, ZERO), plain(), end(), go(6), end(), go(7)]
+        self.assertEqual(live(*told), [1, 2, 5, 6])
+        self.assertEqual(live(*told, DECIDE), [1, 2, 5, 6])
+        self.assertEqual(live(*told, SHORT), [1, 2, 6])
+        self.assertEqual(live(*told, DROP), [0, 1])
+        self.assertEqual(live(*told, PASS, AGAIN), [1, 2, 5, 6])
 
 
 class Idle(unittest.TestCase):
@@ -263,6 +323,121 @@ class Idle(unittest.TestCase):
     def test_one_that_is_held_holds_those_before(self):
         self.assertEqual(idle(create(), wait(ONE), match(4), wait(ONE), wait(ONE), end()), [1])
         self.assertEqual(idle(create(), match(4), go(5), end(), wait(ONE), end()), [])
+
+    def test_listed(self):
+        self.assertEqual(last(create(), end(), IDLE), listed())
+        self.assertEqual(last(create(), wait(ONE), go(3), end(), IDLE), listed(1, 2))
+        chain = [create()] + [wait(ONE)] * 198
+        self.assertEqual(last(*chain, end(), IDLE), listed(*range(1, 199)))
+        self.assertEqual(last(*chain, wait(ONE), IDLE), listed(*range(1, 199)))
+        self.assertEqual(last(*chain, go(1), IDLE), listed())
+
+    def test_if_frozen_too(self):
+        self.assertEqual(idle(create(), wait(ONE), back()), [1])
+        self.assertEqual(idle(create(), wait(ONE), call(0)), [1])
+
+    def test_behind_work(self):
+        told = [create(), wait(ONE + ONE + [4, 0]), when(4, ZERO), end(), go(5), end()]
+        self.assertEqual(idle(*told), [1, 2, 4])
+        self.assertEqual(idle(*told, FOLD), [1, 2, 4])
+        self.assertEqual(idle(*told, DECIDE), [1, 2, 4])
+        self.assertEqual(idle(*told, SHORT), [1, 2])
+        self.assertEqual(idle(*told, DROP), [])
+        self.assertEqual(idle(*told, PASS, AGAIN), [1, 2, 4])
+
+
+class Rings(unittest.TestCase):
+    def of(self, *told):
+        return last(*told, RINGS)
+
+    def test_none(self):
+        self.assertEqual(self.of(create(), end()), listed())
+        self.assertEqual(self.of(create(), plain(), go(1)), listed())
+        self.assertEqual(self.of(back()), listed())
+
+    def test_one_block(self):
+        self.assertEqual(self.of(go(0)), listed(0))
+        self.assertEqual(self.of(end(), when(1, ZERO)), listed(1))
+        self.assertEqual(self.of(end(), when(1, ONE)), listed())
+        self.assertEqual(self.of(end(), when(1, READS)), listed())
+
+    def test_each_kind_that_leads_on(self):
+        self.assertEqual(self.of(end(), wait(ONE), hold(HALF), when(0, ONE), when(5, ZERO), go(1)), listed(1, 2, 3, 4, 5))
+        for broken in (wait(ZERO), wait(READS), hold(ONE), hold(number(-1)), when(1, READS), plain()):
+            self.assertEqual(self.of(end(), wait(ONE), broken, go(1)), listed())
+
+    def test_what_only_leads_into_a_ring(self):
+        self.assertEqual(self.of(go(2), go(0), go(3), go(2), go(3)), listed(2, 3))
+
+    def test_more_than_one(self):
+        self.assertEqual(self.of(go(4), go(1), go(3), go(2), go(0), end(), go(5)), listed(0, 1, 2, 3, 4))
+
+    def test_behind_the_end(self):
+        self.assertEqual(self.of(go(1), wait(ONE)), listed())
+        self.assertEqual(self.of(wait(ONE)), listed())
+        self.assertEqual(self.of(go(0), wait(ONE)), listed(0))
+
+    def test_blocks_that_aren_t_live(self):
+        self.assertEqual(self.of(create(), end(), go(3), go(2)), listed(2, 3))
+
+    def test_200_blocks(self):
+        chain = [go(i + 1) for i in range(199)]
+        self.assertEqual(self.of(*chain, go(0)), listed(*range(200)))
+        self.assertEqual(self.of(*chain, go(199)), listed(199))
+        self.assertEqual(self.of(*chain, go(198)), listed(198, 199))
+        self.assertEqual(self.of(*chain, go(1)), listed(*range(1, 200)))
+        self.assertEqual(self.of(*chain, wait(ONE)), listed())
+
+    def test_behind_work(self):
+        told = [create(), wait(ONE + ONE + [4, 0]), when(1, ZERO), end(), go(4)]
+        for work in ([], [FOLD], [DECIDE], [SHORT]):
+            self.assertEqual(self.of(*told, *work), listed(1, 2, 4))
+        self.assertEqual(self.of(*told, DROP), listed(1, 2))
+        self.assertEqual(self.of(*told, PASS), listed(1, 2))
+        self.assertEqual(self.of(*told, PASS, AGAIN), listed(1, 2, 4))
+
+
+class ByATable(unittest.TestCase):
+    def test_each_question_about_the_whole_image(self):
+        told = [create(), when(3, ONE + [7, 0]), back(), wait(ONE + [7, 1]), go(3)]
+        tables = [table(2, [], [0, 1]), table(2, [], [5, 1])]
+        for question, bare, full in (
+            (SIZE, [5, 5, 0, 1], [5, 5, 2, 0]), (LIVE, listed(0, 1, 2, 3, 4), listed(0, 1, 3, 4)),
+            (RINGS, listed(), listed(3, 4)),
+        ):
+            with self.subTest(question=question):
+                self.assertEqual(last(*told, question), bare)
+                self.assertEqual(last(*told, *tables, question), full)
+        told = [create(), when(3, ONE + [7, 0]), back(), end()]
+        self.assertEqual(last(*told, IDLE), listed())
+        self.assertEqual(last(*told, tables[0], IDLE), listed(1))
+
+
+class Told(unittest.TestCase):
+    def test_what_look_answers_of_each(self):
+        told = [create(), block(35, [1, 2, 3, 0], READS), block(44, [5, 6, 7]), plain()]
+        due = shown(0, [0, 0, 0, 1, 0]) + shown(35, [1, 2, 3, 0], READS) + shown(44, [5, 6, 7]) + shown(9)
+        self.assertEqual(last(*told, TOLD), [4] + due)
+
+    def test_one_block(self):
+        self.assertEqual(last(go(0), TOLD), [1, 3, 1, 0, 0])
+
+    def test_200_blocks(self):
+        self.assertEqual(last(*[back()] * 200, TOLD), [200] + shown(14, [0]) * 200)
+
+    def test_the_image_now(self):
+        told = [create(), wait(ONE + ONE + [4, 0]), go(3), go(4), end()]
+        first = shown(0, [0, 0, 0, 1, 0])
+        old = shown(5, [], ONE + ONE + [4, 0])
+        rest = shown(3, [3]) + shown(3, [4]) + shown(17, [0])
+        self.assertEqual(last(*told, TOLD), [5] + first + old + rest)
+        self.assertEqual(last(*told, FOLD, TOLD), [5] + first + shown(5, [], number(2)) + rest)
+        self.assertEqual(last(*told, DECIDE, TOLD), [5] + first + shown(3, [2]) + rest)
+        self.assertEqual(last(*told, SHORT, TOLD), [5] + first + old + shown(3, [4]) * 2 + shown(17, [0]))
+        self.assertEqual(last(*told, DROP, TOLD), [2] + first + shown(17, [0]))
+        self.assertEqual(last(*told, PASS, TOLD), [2] + first + shown(17, [0]))
+        self.assertEqual(last(*told, PASS, AGAIN, TOLD), [5] + first + old + rest)
+        self.assertEqual(last(*told, PASS, CLEAR, end(), TOLD), [1] + shown(17, [0]))
 
 
 class Stays(unittest.TestCase):

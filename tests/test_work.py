@@ -1,11 +1,11 @@
-"""The calls fold, decide, short, drop, pass, again and clear: what they answer, and the image now behind them."""
+"""The calls fold, decide, short, drop, pass, again and clear: what they answer, and the image now,
+places and origins behind them."""
 
 import unittest
 
-from blockpass.session import Session, do_again, do_decide, do_drop, do_fold, do_pass, do_short, tell_block
 from helper import (
-    AGAIN, CLEAR, DECIDE, DROP, FOLD, PASS, SHORT, SIZE, back, block, call, choose, create, end, go, hold, image_after,
-    last, leads, look, match, number, plain, run, shown, table, wait, when,
+    AGAIN, BIG, CLEAR, DECIDE, DROP, FOLD, PASS, SHORT, SIZE, back, block, call, choose, create, end, go, hold,
+    image_after, last, leads, look, match, number, origin, place, plain, run, shown, table, wait, when,
 )
 
 ONE = number(1)
@@ -300,71 +300,96 @@ class AgainAndClear(unittest.TestCase):
         self.assertEqual(run(create(), PASS, CLEAR, AGAIN, SIZE)[3:], [[0], [-5]])
 
 
-def session_of(*told):
-    session = Session()
-    for one in told:
-        count = one[2]
-        tell_block(session, one[1], one[3:3 + count], one[4 + count:])
-    return session
+NONE = -10
 
 
 class PlacesAndOrigins(unittest.TestCase):
-    def check(self, session, places, origins):
-        self.assertEqual(session.worked.places, places)
-        self.assertEqual(session.worked.origins, origins)
+    def check(self, calls, places, origins):
+        """What place answers of each told block, origin of each block now, and each of the one behind."""
+        asked = [place(i) for i in range(len(places) + 1)] + [origin(i) for i in range(len(origins) + 1)]
+        found = run(*calls, *asked)[len(calls):]
+        self.assertEqual(found, [[n] for n in places + [-6] + origins + [-6]])
 
     def test_at_first_themselves(self):
-        for work in (do_fold, do_decide):
-            session = session_of(create(), wait(SUM), end(), plain())
-            work(session)
-            self.check(session, [0, 1, 2, 3], [0, 1, 2, 3])
+        told = [create(), wait(SUM), end(), plain()]
+        for work in ([], [FOLD], [DECIDE]):
+            self.check(told + work, [0, 1, 2, 3], [0, 1, 2, 3])
 
     def test_short(self):
-        session = session_of(create(), wait(ONE), go(3), end(), go(4))
-        do_short(session)
-        self.check(session, [0, 3, 3, 3, 4], [0, 1, 2, 3, 4])
+        told = [create(), wait(ONE), go(3), end(), go(4)]
+        self.check(told + [SHORT], [0, 3, 3, 3, 4], [0, 1, 2, 3, 4])
+
+    def test_short_of_rings_and_behind_the_end(self):
+        told = [go(1), go(2), go(1), end(), go(5), wait(ONE)]
+        self.check(told + [SHORT], [0, 1, 2, 3, 5, 5], [0, 1, 2, 3, 4, 5])
 
     def test_drop(self):
-        session = session_of(plain(), create(), wait(ONE), go(5), plain(), end(), go(5))
-        do_drop(session)
-        self.check(session, [None, 0, 1, 1, None, 1, None], [1, 5])
+        told = [plain(), create(), wait(ONE), go(5), plain(), end(), go(5)]
+        self.check(told + [DROP], [NONE, 0, 1, 1, NONE, 1, NONE], [1, 5])
 
     def test_drop_behind_short(self):
-        session = session_of(plain(), create(), wait(ONE), go(5), plain(), end(), go(5))
-        do_short(session)
-        do_drop(session)
-        self.check(session, [None, 0, 1, 1, None, 1, 1], [1, 5])
+        told = [plain(), create(), wait(ONE), go(5), plain(), end(), go(5)]
+        self.check(told + [SHORT, DROP], [NONE, 0, 1, 1, NONE, 1, 1], [1, 5])
+
+    def test_pass(self):
+        told = [plain(), create(), wait(SUM), go(5), plain(), end(), go(5)]
+        self.check(told + [PASS], [NONE, 0, 1, 1, NONE, 1, 1], [1, 5])
+        self.check(MODEL + [PASS], [0, 4, 2, 5, 5, 4, 5, 5, 5, 6], [0, 1, 2, 3, 5, 8, 9])
 
     def test_none_stays_none(self):
-        session = session_of(create(), wait(ONE), end(), plain())
-        for work in (do_drop, do_short, do_drop, do_pass):
-            work(session)
-            self.check(session, [0, 1, 1, None], [0, 2])
+        calls = [create(), wait(ONE), end(), plain()]
+        for work in (DROP, SHORT, DROP, PASS):
+            calls.append(work)
+            self.check(calls, [0, 1, 1, NONE], [0, 2])
 
     def test_drop_behind_drop(self):
         # The first drop makes the go lead straight to the plain block: the wait behind is dead at the second.
-        session = session_of(end(), create(), plain(), go(5), end(), wait(ONE), go(2), wait(ONE))
-        do_drop(session)
-        self.check(session, [None, 0, 1, 1, None, 1, 1, None], [1, 2, 3, 5, 6])
-        do_drop(session)
-        self.check(session, [None, 0, 1, 1, None, 1, 1, None], [1, 2, 3])
+        told = [end(), create(), plain(), go(5), end(), wait(ONE), go(2), wait(ONE)]
+        self.check(told + [DROP], [NONE, 0, 1, 1, NONE, 1, 1, NONE], [1, 2, 3, 5, 6])
+        self.check(told + [DROP, DROP], [NONE, 0, 1, 1, NONE, 1, 1, NONE], [1, 2, 3])
 
     def test_if_all_stay_places_do_too(self):
-        session = session_of(create(), block(15, [0, 3]), plain(), go(1))
-        do_drop(session)
-        self.check(session, [0, 1, 2, 3], [0, 1, 2, 3])
+        told = [create(), block(15, [0, 3]), plain(), go(1)]
+        self.check(told + [DROP], [0, 1, 2, 3], [0, 1, 2, 3])
+        told = [create(), wait(ONE), back(), end()]
+        self.check(told + [DROP], [0, 1, 2, 3], [0, 1, 2, 3])
+        told = [create(0), wait(ONE), end()]
+        self.check(told + [DROP], [0, 1, 2], [0, 1, 2])
 
     def test_a_live_block_that_stays_and_leads_elsewhere(self):
-        session = session_of(create(), wait(ONE), block(15, [0, 4]), plain(), go(2))
-        do_drop(session)
-        self.check(session, [0, 1, 1, 2, 1], [0, 2, 3, 4])
+        told = [create(), wait(ONE), block(15, [0, 4]), plain(), go(2)]
+        self.check(told + [DROP], [0, 1, 1, 2, 1], [0, 2, 3, 4])
 
     def test_again(self):
-        session = session_of(create(), wait(ONE), end())
-        do_pass(session)
-        do_again(session)
-        do_fold(session)
-        self.check(session, [0, 1, 2], [0, 1, 2])
+        told = [create(), wait(ONE), end(), plain()]
+        self.check(told + [PASS], [0, 1, 1, NONE], [0, 2])
+        for work in ([], [FOLD], [DECIDE]):
+            self.check(told + [PASS, AGAIN] + work, [0, 1, 2, 3], [0, 1, 2, 3])
+        self.check(told + [PASS, AGAIN, plain()], [0, 1, 2, 3, 4], [0, 1, 2, 3, 4])
+        self.check(told + [PASS, AGAIN, SHORT], [0, 2, 2, 3], [0, 1, 2, 3])
+        self.check(told + [PASS, AGAIN, PASS], [0, 1, 1, NONE], [0, 2])
+
+    def test_clear(self):
+        told = [create(), wait(ONE), end(), plain()]
+        self.assertEqual(run(*told, PASS, CLEAR, place(0), origin(0), place(3))[6:], [[-5], [-5], [-5]])
+        self.check(told + [PASS, CLEAR, create(), end()], [0, 1], [0, 1])
+        self.check(told + [PASS, CLEAR, plain(), create(), DROP], [NONE, 0], [1])
+
+    def test_200_blocks(self):
+        told = [create()] + [wait(ONE)] * 150 + [end()] + [plain()] * 48
+        asked = [place(i) for i in (0, 1, 150, 151, 152, 199, 200)] + [origin(i) for i in (0, 1, 2)]
+        self.assertEqual(run(*told, PASS, *asked)[200:], [
+            [0, 0, 150, 149, 198], [0], [1], [1], [1], [NONE], [NONE], [-6], [0], [151], [-6],
+        ])
+
+    def test_which_refusal(self):
+        for i in (-1, 0, 1, 2, 99):
+            self.assertEqual(last(create(), go(2), place(i)), [-5])
+            self.assertEqual(last(create(), go(2), origin(i)), [-5])
+        told = [create(), end(), plain()]
+        self.assertEqual(run(*told, place(-1), place(2), place(3))[3:], [[-6], [2], [-6]])
+        found = run(*told, DROP, *[place(i) for i in (-BIG, -1, 0, 1, 2, 3, BIG)])
+        self.assertEqual(found[4:], [[-6], [-6], [0], [1], [NONE], [-6], [-6]])
 
 
 if __name__ == "__main__":
